@@ -1,0 +1,1 @@
+"""Huefall: lamps that dim downwards, and which states follow which."""
