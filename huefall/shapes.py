@@ -7,8 +7,8 @@ from huefall.whole import is_whole, is_whole_in
 
 def chain(count, hues):
     """A house in which each lamp hangs directly beneath the lamp before it."""
+    # The wires are made from the count. The hues are left to House.
     check_count(count)
-    check_hues(hues)
     return House(count, hues, [(lamp, lamp + 1) for lamp in range(count - 1)])
 
 
@@ -28,7 +28,6 @@ def hillside(rows, columns, hues):
     check_size(rows, 0)
     check_size(columns, 1)
     check_count(rows * columns)
-    check_hues(hues)
     lamps = range(rows * columns)
     down = [(lamp, lamp + columns) for lamp in lamps if lamp + columns < rows * columns]
     across = [(lamp, lamp + 1) for lamp in lamps if (lamp + 1) % columns > 0]
@@ -40,7 +39,6 @@ def floors(sizes, hues):
     for index, size in enumerate(sizes):
         check_size(size, index)
     check_count(sum(sizes))
-    check_hues(hues)
     wires = []
     start = 0
     for upper_size, lower_size in zip(sizes, sizes[1:]):

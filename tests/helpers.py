@@ -64,3 +64,47 @@ def lamps_below(wires, lamp):
                 found.add(lower)
                 waiting.append(lower)
     return sorted(found)
+
+
+def moves_from(house, state, careful):
+    """The pairs of a lamp and the state after an allowed move at it, told from the wires alone."""
+    found = []
+    for lamp in range(house.count):
+        below = lamps_below(house.wires, lamp)
+        if state[lamp] == 0 or (careful and any(state[lower] for lower in below)):
+            continue
+        hues = list(state)
+        hues[lamp] -= 1
+        for lower in below:
+            hues[lower] = hues[lower] - 1 if hues[lower] else house.hues - 1
+        found.append((lamp, tuple(hues)))
+    return found
+
+
+def searched(house, source, careful):
+    """Every state that runs lead to from the source, found by making moves only."""
+    found = {source}
+    waiting = [source]
+    while waiting:
+        for _, state in moves_from(house, waiting.pop(), careful):
+            if state not in found:
+                found.add(state)
+                waiting.append(state)
+    return found
+
+
+def reachable_pairs(house, careful=False):
+    """All pairs of a source and a target that a run leads to."""
+    return {(source, target) for source in all_states(house) for target in searched(house, source, careful)}
+
+
+def no_lamps(house):
+    """Values that are not lamps of the house."""
+    return [*NO_INTEGERS, -1, house.count, 10 ** 30]
+
+
+def no_states(house):
+    """Values that are not states of the house."""
+    dark = (0,) * house.count
+    values = [None, True, 0, "0" * house.count, list(dark), (), (0, *dark), dark[1:], {lamp: 0 for lamp in dark}]
+    return values + [(*dark[1:], hue) for hue in [*NO_INTEGERS, -1, house.hues, 10 ** 30]]

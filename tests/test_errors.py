@@ -54,7 +54,3 @@ class ErrorsTest(unittest.TestCase):
             with self.assertRaises(ValueError) as caught:
                 raise getattr(errors, name)(*values)
             self.assertIsInstance(str(caught.exception), str)
-
-
-if __name__ == "__main__":
-    unittest.main()

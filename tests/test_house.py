@@ -207,7 +207,3 @@ class ScatteredFaultsTest(FaultTest):
             self.assert_fault(InvalidHouse, {"part": "count", "index": 0}, House.scattered, value, 0)
         for value in [*NO_INTEGERS, 1, 11, -1]:
             self.assert_fault(InvalidHouse, {"part": "hues", "index": 0}, House.scattered, 1, value)
-
-
-if __name__ == "__main__":
-    unittest.main()

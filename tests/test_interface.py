@@ -33,6 +33,43 @@ FUNCTIONS = {
         "read_state": "(house, text)",
         "read_run": "(house, text)",
     },
+    "moves": {
+        "is_allowed": "(house, state, lamp, *, careful=False)",
+        "allowed_lamps": "(house, state, *, careful=False)",
+        "after": "(house, state, lamp, *, careful=False)",
+        "before": "(house, state, lamp, *, careful=False)",
+    },
+    "runs": {
+        "play": "(house, state, run, *, careful=False)",
+        "states_along": "(house, state, run, *, careful=False)",
+        "first_refused": "(house, state, run, *, careful=False)",
+        "counts_of": "(house, run)",
+        "each_state": "(house, state, run, *, careful=False)",
+    },
+    "swaps": {
+        "is_swap": "(house, first, second)",
+        "sorted_form": "(house, run)",
+        "neighbours": "(house, run)",
+    },
+    "reach": {
+        "topmost_differences": "(house, source, target)",
+        "is_reachable": "(house, source, target)",
+        "obstacle": "(house, source, target)",
+        "compare": "(house, first, second)",
+        "witnesses": "(house, first, second)",
+    },
+    "statelists": {
+        "sort_states": "(house, states)",
+        "uppermost": "(house, states)",
+        "lowermost": "(house, states)",
+        "longest_chain": "(house, states)",
+        "layers": "(house, states)",
+    },
+    "tally": {
+        "Tally": "(counts)",
+        "loads": "(house, tally)",
+        "fits": "(house, source, target, tally)",
+    },
     "errors": {
         "InvalidHouse": "(part, index)",
         "InvalidLamp": "(lamp)",
@@ -73,8 +110,15 @@ METHODS = {
         "reduced": "(self)",
         "scattered": "(count, hues)",
     },
+    ("tally", "Tally"): {
+        "__eq__": "(self, other)",
+        "__len__": "(self)",
+        "__add__": "(self, other)",
+        "at": "(self, lamp)",
+        "of_run": "(cls, house, run)",
+    },
 }
-PROPERTIES = {}
+PROPERTIES = {("tally", "Tally"): ["total"]}
 
 
 class InterfaceTest(unittest.TestCase):
@@ -101,10 +145,10 @@ class InterfaceTest(unittest.TestCase):
             for name in names:
                 self.assertIsInstance(vars(owner)[name], property)
 
-    def test_static_method(self):
+    def test_static_method_class_method_and_generator(self):
         house = importlib.import_module("huefall.house")
         self.assertIsInstance(vars(house.House)["scattered"], staticmethod)
-
-
-if __name__ == "__main__":
-    unittest.main()
+        tally = importlib.import_module("huefall.tally")
+        self.assertIsInstance(vars(tally.Tally)["of_run"], classmethod)
+        runs = importlib.import_module("huefall.runs")
+        self.assertTrue(inspect.isgeneratorfunction(runs.each_state))

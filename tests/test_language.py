@@ -1,6 +1,7 @@
 """The package against the rules of its Python subset that can be seen from the code alone."""
 
 import ast
+import builtins
 import unittest
 from pathlib import Path
 
@@ -151,8 +152,16 @@ class ExpressionsTest(unittest.TestCase):
             known = [*BUILTINS, *bound_names(tree), "staticmethod", "classmethod", "property"]
             for node in nodes(tree, ast.Name):
                 self.assertIn(node.id, known, name)
+
+    def test_names(self):
+        for name, tree in TREES.items():
+            outer = [alias.name for node in nodes(tree, ast.ImportFrom) for alias in node.names]
+            outer += [node.name for node in nodes(tree, ast.ClassDef)]
+            inner = [node.arg for node in nodes(tree, ast.arg)]
+            inner += [node.id for node in nodes(tree, ast.Name) if isinstance(node.ctx, ast.Store)]
+            self.assertEqual(sorted(set(outer) & set(inner)), [], name)
             for bound in bound_names(tree):
-                self.assertNotIn(bound, BUILTINS, name)
+                self.assertNotIn(bound, dir(builtins), name)
 
     def test_methods(self):
         own = [node.name for tree in TREES.values() for node in nodes(tree, ast.FunctionDef)]
@@ -174,6 +183,8 @@ class ExpressionsTest(unittest.TestCase):
             for node in nodes(tree, ast.Call):
                 if name_of_call(node) in MAY_ITERATE:
                     allowed += node.args
+                if name_of_call(node) == "reversed":
+                    allowed += [part for part in node.args if ast.unparse(part).startswith("range(")]
             for node in nodes(tree, ast.Call):
                 if name_of_call(node) in ON_THE_SPOT:
                     self.assertIn(node, allowed, f"{name} line {node.lineno}")
@@ -183,7 +194,3 @@ class ExpressionsTest(unittest.TestCase):
             for node in nodes(tree, ast.Constant):
                 if isinstance(node.value, str):
                     self.assertNotIn(chr(37), node.value, name)
-
-
-if __name__ == "__main__":
-    unittest.main()

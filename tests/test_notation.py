@@ -123,7 +123,3 @@ class ReadingStatesAndRunsTest(FaultTest):
         bad = ["", " ", "--", "- ", " -", "-\n", "0 -", "0  1", " 0", "0 ", "0\n", "0\n1", "0,1", "12", "0 12", "0\t1"]
         for text in [*bad, *BAD_NUMBERS, *["0 " + number for number in BAD_NUMBERS]]:
             self.assert_fault(InvalidText, {"line": 1}, read_run, chain(12, 2), text)
-
-
-if __name__ == "__main__":
-    unittest.main()

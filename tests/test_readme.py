@@ -10,7 +10,3 @@ class ReadmeTest(unittest.TestCase):
         result = doctest.testfile(str(README), module_relative=False)
         self.assertEqual(result.failed, 0)
         self.assertGreater(result.attempted, 0)
-
-
-if __name__ == "__main__":
-    unittest.main()

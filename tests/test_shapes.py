@@ -102,7 +102,3 @@ class ShapeFaultsTest(FaultTest):
         for function in (side_by_side, stacked):
             self.assert_house_fault("count", 0, function, House(8, 2), House(9, 3))
             self.assert_house_fault("hues", 1, function, House(8, 2), House(8, 3))
-
-
-if __name__ == "__main__":
-    unittest.main()

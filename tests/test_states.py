@@ -5,7 +5,7 @@ from huefall.errors import InvalidNumber, InvalidState
 from huefall.house import House
 from huefall.shapes import chain, stairs
 from huefall.states import bright_state, dark_state, is_state, lit_lamps, mirror, number_of, state_of
-from tests.helpers import NO_INTEGERS, FaultTest, all_states, small_houses
+from tests.helpers import NO_INTEGERS, FaultTest, all_states, reachable_pairs, small_houses
 
 NO_STATES = [None, True, 0, "00", [0, 0], (0,), (0, 0, 0), (), (0, 3), (0, -1), (0, True), (False, 0)]
 NO_STATES += [(0, None), (0, "0"), (0, (0,)), (0, [0]), ((0, 0),), (0, 1.0), {0: 0}, (0, 10 ** 30)]
@@ -72,6 +72,12 @@ class NumbersTest(FaultTest):
             for state in states:
                 self.assertEqual(state_of(house, number_of(house, state)), state)
 
+    def test_reachable_states_have_smaller_numbers(self):
+        for house in small_houses():
+            for source, target in reachable_pairs(house):
+                if source != target:
+                    self.assertLess(number_of(house, target), number_of(house, source))
+
     def test_first_and_last_number(self):
         for house in (House(1, 2), chain(16, 10)):
             last = house.hues ** house.count - 1
@@ -83,7 +89,3 @@ class NumbersTest(FaultTest):
     def test_values_that_are_no_numbers(self):
         for value in [*NO_INTEGERS, -1, 9, 10 ** 1000]:
             self.assert_fault(InvalidNumber, {"number": value}, state_of, chain(2, 3), value)
-
-
-if __name__ == "__main__":
-    unittest.main()
