@@ -107,6 +107,11 @@ def is_lamp(house, value):
     return is_whole_in(value, 0, house.count - 1)
 
 
+def are_lamps(house, values):
+    """True if every item is a lamp of the house."""
+    return all([is_lamp(house, value) for value in values])
+
+
 def check_lamp(house, lamp):
     """Raise InvalidLamp if the value is not a lamp of the house."""
     if not is_lamp(house, lamp):

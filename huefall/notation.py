@@ -1,7 +1,7 @@
 """The written forms of houses, states and runs, and how they are read."""
 
 from huefall.errors import InvalidHouse, InvalidText
-from huefall.house import House, check_run, is_lamp
+from huefall.house import House, are_lamps, check_run, is_lamp
 from huefall.states import check_state, is_state
 
 DIGITS = "0123456789"
@@ -80,11 +80,6 @@ def read_number(word):
             return None
         number = number * 10 + digit
     return number
-
-
-def are_lamps(house, numbers):
-    """True if every item is a lamp of the house."""
-    return all([is_lamp(house, number) for number in numbers])
 
 
 def read_size(line):

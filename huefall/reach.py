@@ -1,5 +1,6 @@
 """Which states are reachable from which, told from the lamps where they differ."""
 
+from huefall.errors import NotReachable
 from huefall.states import check_state
 
 
@@ -24,6 +25,13 @@ def obstacle(house, source, target):
         if source[lamp] < target[lamp]:
             return lamp
     return None
+
+
+def check_reachable(house, source, target):
+    """Raise NotReachable if the target is not reachable from the source."""
+    lamp = obstacle(house, source, target)
+    if lamp is not None:
+        raise NotReachable(lamp)
 
 
 def compare(house, first, second):

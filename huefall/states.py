@@ -1,7 +1,7 @@
 """States: the hue of each lamp of a house, and the number of a state."""
 
 from huefall.errors import InvalidNumber, InvalidState
-from huefall.whole import is_whole_in
+from huefall.whole import is_whole_in, power
 
 
 def is_state(house, value):
@@ -62,7 +62,4 @@ def state_of(house, number):
 
 def state_count(house):
     """The number of states of the house."""
-    count = 1
-    for _ in range(house.count):
-        count = count * house.hues
-    return count
+    return power(house.hues, house.count)

@@ -3,8 +3,10 @@
 import unittest
 from itertools import chain, combinations, permutations, product
 
-from huefall.errors import InvalidHouse
+from huefall import shapes
+from huefall.errors import InvalidHouse, InvalidState, NotReachable
 from huefall.house import House
+from huefall.reach import obstacle
 
 # None of these is a lamp, a count, a size or a number of anything.
 NO_INTEGERS = [True, False, None, "0", "1", "", (0,), (1,), [0], [1], (), [], {}, 1.0, b"1"]
@@ -23,6 +25,21 @@ class FaultTest(unittest.TestCase):
         self.assertIs(type(caught.exception), error)
         self.assertEqual(vars(caught.exception), attributes)
         self.assertEqual(repr(vars(caught.exception)), repr(attributes))
+
+    def assert_checks_states(self, house, function, states, *rest, **named):
+        """The call checks each of so many states, in their order and before all arguments behind them."""
+        dark = (0,) * house.count
+        for value in no_states(house):
+            fault = {"state": value}
+            for place in range(states):
+                later = ["later"] * (states - place - 1)
+                self.assert_fault(InvalidState, fault, function, house, *[dark] * place, value, *later, *rest, **named)
+
+    def assert_needs_reachable(self, house, function, *rest, **named):
+        """The call raises NotReachable with the obstacle for each pair of states that no run leads to."""
+        for source, target in unreachable_pairs(house):
+            fault = {"lamp": obstacle(house, source, target)}
+            self.assert_fault(NotReachable, fault, function, house, source, target, *rest, **named)
 
 
 def all_houses(count, hues):
@@ -96,6 +113,40 @@ def searched(house, source, careful):
 def reachable_pairs(house, careful=False):
     """All pairs of a source and a target that a run leads to."""
     return {(source, target) for source in all_states(house) for target in searched(house, source, careful)}
+
+
+def unreachable_pairs(house):
+    """All pairs of a source and a target that no run leads to."""
+    pairs = reachable_pairs(house)
+    return [pair for pair in product(all_states(house), repeat=2) if pair not in pairs]
+
+
+def tallies_from(house, source):
+    """All pairs of a state and the counts of a free run that leads to it."""
+    found = {(source, (0,) * house.count)}
+    waiting = list(found)
+    while waiting:
+        state, counts = waiting.pop()
+        for lamp, other in moves_from(house, state, False):
+            pair = (other, tuple(count + (at == lamp) for at, count in enumerate(counts)))
+            if pair not in found:
+                found.add(pair)
+                waiting.append(pair)
+    return found
+
+
+def tallies_between(house):
+    """For each pair of a source and a target that runs lead to, the ascending list of their counts."""
+    found = {}
+    for source in all_states(house):
+        for target, counts in tallies_from(house, source):
+            found.setdefault((source, target), []).append(counts)
+    return {pair: sorted(tallies) for pair, tallies in found.items()}
+
+
+def great_houses():
+    """Houses of 16 lamps and 10 hues in which states cannot be gone through one by one."""
+    return [House(16, 10), shapes.chain(16, 10), shapes.hillside(4, 4, 10), shapes.floors([4, 4, 4, 4], 10)]
 
 
 def no_lamps(house):

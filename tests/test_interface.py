@@ -70,6 +70,48 @@ FUNCTIONS = {
         "loads": "(house, tally)",
         "fits": "(house, source, target, tally)",
     },
+    "lengths": {
+        "least_tally": "(house, source, target)",
+        "greatest_tally": "(house, source, target)",
+        "weights": "(house)",
+        "worth": "(house, state)",
+        "length_range": "(house, source, target)",
+        "is_length": "(house, source, target, length)",
+        "tally_of_length": "(house, source, target, length)",
+        "tally_with": "(house, source, target, lamp, count)",
+        "least_run": "(house, source, target, *, limit=1000)",
+        "longest_run": "(house, source, target, *, limit=1000)",
+        "run_of_length": "(house, source, target, length, *, limit=1000)",
+    },
+    "building": {
+        "normal_run": "(house, source, tally, *, limit=1000)",
+        "careful_run": "(house, source, target, *, limit=1000)",
+        "next_careful": "(house, source, target)",
+    },
+    "signs": {
+        "way_number": "(house, upper, lower)",
+        "sign": "(house, upper, lower)",
+        "way_row": "(house, lower)",
+        "sign_row": "(house, lower)",
+        "least_by_signs": "(house, source, target)",
+        "greatest_by_ways": "(house, source, target)",
+    },
+    "tallies": {
+        "all_tallies": "(house, source, target, *, limit=2000)",
+    },
+    "certificates": {
+        "certificate": "(house, source, target)",
+        "careful_certificate": "(house, source, target, *, limit=1000)",
+        "is_certificate": "(house, source, target, value, *, careful=False)",
+        "joined": "(house, source, middle, target)",
+    },
+    "counting": {
+        "lower_count": "(house, state)",
+        "upper_count": "(house, state)",
+        "pair_count": "(house)",
+        "rank_below": "(house, state, target)",
+        "state_at_rank": "(house, state, rank)",
+    },
     "errors": {
         "InvalidHouse": "(part, index)",
         "InvalidLamp": "(lamp)",
@@ -119,6 +161,7 @@ METHODS = {
     },
 }
 PROPERTIES = {("tally", "Tally"): ["total"]}
+CONSTANTS = {("lengths", "MOST_MOVES"): 1000, ("tallies", "MOST_TALLIES"): 2000}
 
 
 class InterfaceTest(unittest.TestCase):
@@ -144,6 +187,12 @@ class InterfaceTest(unittest.TestCase):
             owner = getattr(importlib.import_module("huefall." + module_name), class_name)
             for name in names:
                 self.assertIsInstance(vars(owner)[name], property)
+
+    def test_constants(self):
+        for (module_name, name), number in CONSTANTS.items():
+            module = importlib.import_module("huefall." + module_name)
+            self.assertEqual(vars(module)[name], number)
+            self.assertIs(type(vars(module)[name]), int)
 
     def test_static_method_class_method_and_generator(self):
         house = importlib.import_module("huefall.house")

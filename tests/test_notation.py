@@ -1,5 +1,3 @@
-import unittest
-
 from huefall.errors import InvalidLamp, InvalidState, InvalidText
 from huefall.house import House
 from huefall.notation import house_text, read_house, read_run, read_state, run_text, state_text

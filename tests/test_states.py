@@ -1,4 +1,3 @@
-import unittest
 from itertools import product
 
 from huefall.errors import InvalidNumber, InvalidState

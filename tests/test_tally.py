@@ -4,24 +4,10 @@ from huefall.errors import InvalidLamp, InvalidState, InvalidTally
 from huefall.house import House
 from huefall.shapes import chain, floors
 from huefall.tally import Tally, fits, loads
-from tests.helpers import NO_INTEGERS, FaultTest, all_states, moves_from, no_lamps, no_states, small_houses
+from tests.helpers import NO_INTEGERS, FaultTest, all_states, no_lamps, no_states, small_houses, tallies_from
 
 NO_COUNTS = [None, True, 0, "", "12", b"12", {}, {0: 1}, set(), [], (), [-1], (0, -1), [1, "1"]]
 NO_COUNTS += [[value] for value in NO_INTEGERS] + [(0, value) for value in NO_INTEGERS]
-
-
-def tallies_from(house, source):
-    """All pairs of a state and the counts of a free run that leads to it."""
-    found = {(source, (0,) * house.count)}
-    waiting = list(found)
-    while waiting:
-        state, counts = waiting.pop()
-        for lamp, other in moves_from(house, state, False):
-            pair = (other, tuple(count + (at == lamp) for at, count in enumerate(counts)))
-            if pair not in found:
-                found.add(pair)
-                waiting.append(pair)
-    return found
 
 
 class TallyTest(FaultTest):
