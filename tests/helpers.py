@@ -98,6 +98,23 @@ def moves_from(house, state, careful):
     return found
 
 
+def put_in_by_the_words(house, turned, source, counts):
+    """The normal run, word by word as point 42 tells it, if a move turns the lamps of its list."""
+    run = []
+    for lamp in house.order():
+        longer, hue, moves = [], source[lamp], 0
+        for move in [None, *run]:
+            if move is not None:
+                longer.append(move)
+                if lamp in turned[move]:
+                    hue = hue - 1 if hue > 0 else house.hues - 1
+            while hue >= 1 and moves < counts[lamp]:
+                longer.append(lamp)
+                hue, moves = hue - 1, moves + 1
+        run = longer
+    return run
+
+
 def searched(house, source, careful):
     """Every state that runs lead to from the source, found by making moves only."""
     found = {source}

@@ -13,6 +13,7 @@ from tests.helpers import (
     lamps_below,
     moves_from,
     no_states,
+    put_in_by_the_words,
     reachable_pairs,
     small_houses,
     tallies_between,
@@ -21,21 +22,9 @@ from tests.helpers import (
 SMALL = small_houses()
 
 
-def put_in_by_the_words(house, source, counts):
-    """The normal run and the number of moves put in, word by word as point 42 tells it."""
-    run = []
-    for lamp in house.order():
-        longer, hue, moves = [], source[lamp], 0
-        for move in [None, *run]:
-            if move is not None:
-                longer.append(move)
-                if lamp in lamps_below(house.wires, move):
-                    hue = hue - 1 if hue > 0 else house.hues - 1
-            while hue >= 1 and moves < counts[lamp]:
-                longer.append(lamp)
-                hue, moves = hue - 1, moves + 1
-        run = longer
-    return run
+def put_in(house, source, counts):
+    below = [lamps_below(house.wires, lamp) for lamp in range(house.count)]
+    return put_in_by_the_words(house, below, source, counts)
 
 
 class NormalRunTest(FaultTest):
@@ -59,7 +48,7 @@ class NormalRunTest(FaultTest):
             for (source, target), tallies in tallies_between(house).items():
                 for counts in tallies:
                     run = normal_run(house, source, Tally(counts))
-                    self.assertEqual(run, put_in_by_the_words(house, source, counts))
+                    self.assertEqual(run, put_in(house, source, counts))
                     self.assertEqual(Tally.of_run(house, run).counts, counts)
                     self.assertEqual(play(house, source, run), target)
 
@@ -82,7 +71,7 @@ class NormalRunTest(FaultTest):
 
     def test_any_counts_that_are_not_too_great(self):
         house = House(3, 3, [(1, 2), (2, 0)])
-        self.assertEqual(normal_run(house, (1, 2, 0), Tally([5, 1, 2])), put_in_by_the_words(house, (1, 2, 0), (5, 1, 2)))
+        self.assertEqual(normal_run(house, (1, 2, 0), Tally([5, 1, 2])), put_in(house, (1, 2, 0), (5, 1, 2)))
         self.assertEqual(len(normal_run(house, (1, 2, 0), Tally([5, 1, 2]))), 8)
 
     def test_limit(self):

@@ -112,6 +112,44 @@ FUNCTIONS = {
         "rank_below": "(house, state, target)",
         "state_at_rank": "(house, state, rank)",
     },
+    "listing": {
+        "each_below": "(house, state, *, limit=4096)",
+        "each_above": "(house, state, *, limit=4096)",
+        "between": "(house, source, target, *, limit=4096)",
+        "level_sizes": "(house, *, limit=4096)",
+    },
+    "moebius": {
+        "lowest_lit": "(house, state)",
+        "lowered": "(house, state, lamps)",
+        "moebius": "(house, source, target)",
+        "inclusion": "(house, state)",
+        "invert": "(house, state, total)",
+    },
+    "lattice": {
+        "meet": "(house, first, *others)",
+        "join": "(house, first, *others)",
+        "pieces": "(house, state)",
+        "join_all": "(house, states)",
+        "meet_all": "(house, states)",
+        "is_single": "(house, state)",
+        "single_count": "(house)",
+    },
+    "covers": {
+        "covered_by": "(house, state)",
+        "covers_of": "(house, state)",
+        "is_cover": "(house, source, target)",
+    },
+    "plainness": {
+        "is_plain": "(house)",
+        "fork": "(house)",
+        "fork_states": "(house)",
+    },
+    "kin": {
+        "Kin": "(house)",
+        "CarefulKin": "(house)",
+        "WiredKin": "(house)",
+        "CarefulWiredKin": "(house)",
+    },
     "errors": {
         "InvalidHouse": "(part, index)",
         "InvalidLamp": "(lamp)",
@@ -159,9 +197,27 @@ METHODS = {
         "at": "(self, lamp)",
         "of_run": "(cls, house, run)",
     },
+    ("kin", "Kin"): {
+        "turned": "(self, lamp)",
+        "factor": "(self, lamp)",
+        "is_state": "(self, value)",
+        "allowed": "(self, state, lamp)",
+        "after": "(self, state, lamp)",
+        "greatest": "(self, source, target)",
+        "reaches": "(self, source, target)",
+        "worth": "(self, state)",
+        "run": "(self, source, target, *, limit=1000)",
+    },
+    ("kin", "CarefulKin"): {"allowed": "(self, state, lamp)"},
+    ("kin", "WiredKin"): {"turned": "(self, lamp)"},
 }
 PROPERTIES = {("tally", "Tally"): ["total"]}
-CONSTANTS = {("lengths", "MOST_MOVES"): 1000, ("tallies", "MOST_TALLIES"): 2000}
+CONSTANTS = {
+    ("lengths", "MOST_MOVES"): 1000,
+    ("tallies", "MOST_TALLIES"): 2000,
+    ("listing", "MOST_STATES"): 4096,
+}
+LABELS = {"Kin": "free", "CarefulKin": "careful", "WiredKin": "wired", "CarefulWiredKin": "careful wired"}
 
 
 class InterfaceTest(unittest.TestCase):
@@ -194,10 +250,18 @@ class InterfaceTest(unittest.TestCase):
             self.assertEqual(vars(module)[name], number)
             self.assertIs(type(vars(module)[name]), int)
 
-    def test_static_method_class_method_and_generator(self):
+    def test_labels_stand_in_their_class(self):
+        for name, label in LABELS.items():
+            owner = getattr(importlib.import_module("huefall.kin"), name)
+            self.assertEqual(vars(owner)["LABEL"], label)
+
+    def test_static_method_class_method_and_generators(self):
         house = importlib.import_module("huefall.house")
         self.assertIsInstance(vars(house.House)["scattered"], staticmethod)
         tally = importlib.import_module("huefall.tally")
         self.assertIsInstance(vars(tally.Tally)["of_run"], classmethod)
         runs = importlib.import_module("huefall.runs")
         self.assertTrue(inspect.isgeneratorfunction(runs.each_state))
+        listing = importlib.import_module("huefall.listing")
+        self.assertTrue(inspect.isgeneratorfunction(listing.each_below))
+        self.assertTrue(inspect.isgeneratorfunction(listing.each_above))

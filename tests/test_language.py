@@ -47,6 +47,12 @@ def bound_names(tree):
     return bound + [alias.name for node in nodes(tree, ast.ImportFrom) for alias in node.names]
 
 
+def generators():
+    """The names of the functions of the package that yield."""
+    functions = [node for tree in TREES.values() for node in nodes(tree, ast.FunctionDef)]
+    return [node.name for node in functions if nodes(node, ast.Yield, ast.YieldFrom)]
+
+
 def is_literal(node):
     try:
         ast.literal_eval(node)
@@ -149,7 +155,7 @@ class ExpressionsTest(unittest.TestCase):
 
     def test_builtins(self):
         for name, tree in TREES.items():
-            known = [*BUILTINS, *bound_names(tree), "staticmethod", "classmethod", "property"]
+            known = [*BUILTINS, *bound_names(tree), "staticmethod", "classmethod", "property", "super"]
             for node in nodes(tree, ast.Name):
                 self.assertIn(node.id, known, name)
 
@@ -175,6 +181,25 @@ class ExpressionsTest(unittest.TestCase):
             for node in nodes(tree, ast.Call):
                 if name_of_call(node) in TAKE_LISTS:
                     self.assertFalse([part for part in node.args if isinstance(part, ast.GeneratorExp)], name)
+
+    def test_generators_are_iterated_at_once(self):
+        for name, tree in TREES.items():
+            allowed = [node.iter for node in nodes(tree, ast.For, ast.comprehension)]
+            for node in nodes(tree, ast.Call):
+                if name_of_call(node) in MAY_ITERATE:
+                    allowed += node.args
+            called = [node for node in nodes(tree, ast.Call) if name_of_call(node) in generators()]
+            for node in called:
+                self.assertIn(node, allowed, f"{name} line {node.lineno}")
+            used = [node for node in nodes(tree, ast.Name) if node.id in generators()]
+            self.assertEqual(len(used), len(called), name)
+
+    def test_no_name_is_a_method_and_an_attribute(self):
+        owners = [node for tree in TREES.values() for node in nodes(tree, ast.ClassDef)]
+        methods = {node.name for owner in owners for node in nodes(owner, ast.FunctionDef)}
+        attributes = [node for tree in TREES.values() for node in nodes(tree, ast.Attribute)]
+        assigned = {node.attr for node in attributes if isinstance(node.ctx, ast.Store)}
+        self.assertEqual(methods & assigned, set())
 
     def test_iterated_on_the_spot(self):
         for name, tree in TREES.items():
