@@ -98,8 +98,12 @@ def moves_from(house, state, careful):
     return found
 
 
-def put_in_by_the_words(house, turned, source, counts):
-    """The normal run, word by word as point 42 tells it, if a move turns the lamps of its list."""
+def put_in_by_the_words(house, turned, source, counts, turn=None):
+    """The normal run, word by word as point 42 tells it, if a move turns the lamps of its list.
+
+    `turn(lamp, hue)` is the hue that a lamp has after it is turned, by default as in a free move.
+    """
+    turn = turn or (lambda lamp, hue: hue - 1 if hue > 0 else house.hues - 1)
     run = []
     for lamp in house.order():
         longer, hue, moves = [], source[lamp], 0
@@ -107,12 +111,20 @@ def put_in_by_the_words(house, turned, source, counts):
             if move is not None:
                 longer.append(move)
                 if lamp in turned[move]:
-                    hue = hue - 1 if hue > 0 else house.hues - 1
+                    hue = turn(lamp, hue)
             while hue >= 1 and moves < counts[lamp]:
                 longer.append(lamp)
                 hue, moves = hue - 1, moves + 1
         run = longer
     return run
+
+
+def no_values_of_a_tuple(right, wrong):
+    """Values of another kind or length than the tuple, and the tuple with each wrong item in each place."""
+    values = [None, True, 0, "", "0" * len(right), list(right), {}, (), (*right, right[0]), right[1:]]
+    for place in range(len(right)):
+        values += [(*right[:place], item, *right[place + 1:]) for item in wrong]
+    return values
 
 
 def searched(house, source, careful):

@@ -150,6 +150,37 @@ FUNCTIONS = {
         "WiredKin": "(house)",
         "CarefulWiredKin": "(house)",
     },
+    "otherkin": {
+        "GainKin": "(house, gain)",
+        "CoinKin": "(house)",
+        "MixedKin": "(house, sizes)",
+    },
+    "alike": {
+        "is_alike": "(first, second)",
+        "parting": "(first, second)",
+    },
+    "glimpse": {
+        "matches": "(house, glimpse, state)",
+        "can_follow": "(house, state, glimpse)",
+        "blocked_lamp": "(house, state, glimpse)",
+        "matching_state": "(house, state, glimpse)",
+        "match_count": "(house, state, glimpse)",
+    },
+    "watcher": {
+        "Watcher": "(house, state)",
+    },
+    "mending": {
+        "follows": "(house, first, second)",
+        "longest_kept": "(house, log)",
+        "groups": "(house, log)",
+        "is_mended": "(house, log, kept, parts)",
+    },
+    "hidden": {
+        "hidden_tallies": "(house, source, target, *, length=None, known=(), limit=2000)",
+        "hidden_ranges": "(house, source, target, *, length=None, known=(), limit=2000)",
+        "sure_lamps": "(house, source, target)",
+        "still_lamps": "(house, source, target)",
+    },
     "errors": {
         "InvalidHouse": "(part, index)",
         "InvalidLamp": "(lamp)",
@@ -210,14 +241,34 @@ METHODS = {
     },
     ("kin", "CarefulKin"): {"allowed": "(self, state, lamp)"},
     ("kin", "WiredKin"): {"turned": "(self, lamp)"},
+    ("otherkin", "GainKin"): {"factor": "(self, lamp)"},
+    ("otherkin", "CoinKin"): {"is_state": "(self, value)"},
+    ("otherkin", "MixedKin"): {"factor": "(self, lamp)", "is_state": "(self, value)"},
+    ("watcher", "Watcher"): {
+        "__call__": "(self, line)",
+        "sure": "(self, lamp)",
+        "history": "(self)",
+        "fork": "(self)",
+    },
 }
-PROPERTIES = {("tally", "Tally"): ["total"]}
+PROPERTIES = {("tally", "Tally"): ["total"], ("watcher", "Watcher"): ["possible", "failed_at"]}
 CONSTANTS = {
     ("lengths", "MOST_MOVES"): 1000,
     ("tallies", "MOST_TALLIES"): 2000,
     ("listing", "MOST_STATES"): 4096,
+    ("watcher", "MOST_WATCHED"): 256,
 }
-LABELS = {"Kin": "free", "CarefulKin": "careful", "WiredKin": "wired", "CarefulWiredKin": "careful wired"}
+LABELS = {
+    ("kin", "Kin"): "free",
+    ("kin", "CarefulKin"): "careful",
+    ("kin", "WiredKin"): "wired",
+    ("kin", "CarefulWiredKin"): "careful wired",
+    ("otherkin", "GainKin"): "gain",
+    ("otherkin", "CoinKin"): "coin",
+    ("otherkin", "MixedKin"): "mixed",
+}
+# The methods that each rule has, its own or those of a class above.
+RULE_METHODS = ["turned", "factor", "is_state", "allowed", "after", "greatest", "reaches", "worth", "run"]
 
 
 class InterfaceTest(unittest.TestCase):
@@ -251,9 +302,11 @@ class InterfaceTest(unittest.TestCase):
             self.assertIs(type(vars(module)[name]), int)
 
     def test_labels_stand_in_their_class(self):
-        for name, label in LABELS.items():
-            owner = getattr(importlib.import_module("huefall.kin"), name)
+        for (module_name, name), label in LABELS.items():
+            owner = getattr(importlib.import_module("huefall." + module_name), name)
             self.assertEqual(vars(owner)["LABEL"], label)
+            for method in RULE_METHODS:
+                self.assertTrue(inspect.isfunction(getattr(owner, method)), method)
 
     def test_static_method_class_method_and_generators(self):
         house = importlib.import_module("huefall.house")

@@ -183,15 +183,16 @@ class ExpressionsTest(unittest.TestCase):
                     self.assertFalse([part for part in node.args if isinstance(part, ast.GeneratorExp)], name)
 
     def test_generators_are_iterated_at_once(self):
+        yielding = generators()
         for name, tree in TREES.items():
             allowed = [node.iter for node in nodes(tree, ast.For, ast.comprehension)]
             for node in nodes(tree, ast.Call):
                 if name_of_call(node) in MAY_ITERATE:
                     allowed += node.args
-            called = [node for node in nodes(tree, ast.Call) if name_of_call(node) in generators()]
+            called = [node for node in nodes(tree, ast.Call) if name_of_call(node) in yielding]
             for node in called:
                 self.assertIn(node, allowed, f"{name} line {node.lineno}")
-            used = [node for node in nodes(tree, ast.Name) if node.id in generators()]
+            used = [node for node in nodes(tree, ast.Name) if node.id in yielding]
             self.assertEqual(len(used), len(called), name)
 
     def test_no_name_is_a_method_and_an_attribute(self):
