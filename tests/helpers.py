@@ -4,12 +4,19 @@ import unittest
 from itertools import chain, combinations, permutations, product
 
 from huefall import shapes
-from huefall.errors import InvalidHouse, InvalidState, NotReachable
+from huefall.errors import InvalidHouse, InvalidLamp, InvalidState, NotReachable
 from huefall.house import House
 from huefall.reach import obstacle
 
 # None of these is a lamp, a count, a size or a number of anything.
 NO_INTEGERS = [True, False, None, "0", "1", "", (0,), (1,), [0], [1], (), [], {}, 1.0, b"1"]
+
+
+class Unequal:
+    """A value that refuses to be compared."""
+
+    def __eq__(self, other):
+        raise RuntimeError
 
 
 class FaultTest(unittest.TestCase):
@@ -40,6 +47,36 @@ class FaultTest(unittest.TestCase):
         for source, target in unreachable_pairs(house):
             fault = {"lamp": obstacle(house, source, target)}
             self.assert_fault(NotReachable, fault, function, house, source, target, *rest, **named)
+
+
+class RuleTest(FaultTest):
+    """A test case for rules of moves of the house of four lamps in which a move at lamp 2 turns others."""
+
+    def assert_lists_are_new(self, rule):
+        """What is done to a list that the rule returns has no effect on the rule."""
+        calls = [lambda: rule.turned(2), lambda: rule.greatest((1, 1, 1, 1), (0, 0, 0, 0))]
+        calls.append(lambda: rule.run((0, 0, 1, 0), (0, 0, 0, 0)))
+        for call in calls:
+            kept = call()
+            call().clear()
+            self.assertEqual(call(), kept)
+
+    def assert_checks(self, rule, values):
+        """The methods of the rule check lamps and states in their order; the values are no states."""
+        for value in values:
+            fault = {"state": value}
+            for method in (rule.allowed, rule.after):
+                self.assert_fault(InvalidState, fault, method, value, "no lamp")
+            for method in (rule.greatest, rule.reaches, rule.run):
+                self.assert_fault(InvalidState, fault, method, value, "later")
+                self.assert_fault(InvalidState, fault, method, (0,) * 4, value)
+            self.assert_fault(InvalidState, fault, rule.worth, value)
+        for value in no_lamps(rule.house):
+            for method in (rule.turned, rule.factor):
+                self.assert_fault(InvalidLamp, {"lamp": value}, method, value)
+            for method in (rule.allowed, rule.after):
+                # All lamps are dark, so a later check would refuse the move instead.
+                self.assert_fault(InvalidLamp, {"lamp": value}, method, (0,) * 4, value)
 
 
 def all_houses(count, hues):

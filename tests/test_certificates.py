@@ -8,6 +8,7 @@ from huefall.shapes import chain, floors
 from huefall.states import bright_state, dark_state
 from tests.helpers import (
     FaultTest,
+    Unequal,
     all_states,
     great_houses,
     lamps_below,
@@ -19,13 +20,6 @@ from tests.helpers import (
 )
 
 SMALL = small_houses()
-
-
-class Unequal:
-    """A value that refuses to be compared."""
-
-    def __eq__(self, other):
-        raise RuntimeError
 
 
 NO_CERTIFICATES = [None, True, 0, "run", "", (), [], {}, ("run",), ("lamp",), ("run", [], []), ("lamp", 0, 0)]

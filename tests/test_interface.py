@@ -181,6 +181,33 @@ FUNCTIONS = {
         "sure_lamps": "(house, source, target)",
         "still_lamps": "(house, source, target)",
     },
+    "desk": {
+        "Desk": "(house, state, *, mode='free')",
+    },
+    "commands": {
+        "perform": "(desk, text)",
+    },
+    "facts": {
+        "is_fact": "(hues, value)",
+        "names_in": "(hues, told)",
+        "facts_of": "(house, names, states)",
+    },
+    "closing": {
+        "close": "(hues, told)",
+        "contradictions": "(hues, told)",
+        "is_step": "(hues, told, step)",
+        "derivation": "(hues, told, fact)",
+        "is_derivation": "(hues, told, fact, steps)",
+    },
+    "search": {
+        "plain_reachable": "(house, source, *, careful=False, limit=4096)",
+        "plain_lengths": "(house, source, target, *, careful=False, limit=256)",
+        "plain_meet": "(house, first, second, *, limit=256)",
+        "plain_join": "(house, first, second, *, limit=256)",
+    },
+    "report": {
+        "run_table": "(house, state, run, *, careful=False)",
+    },
     "errors": {
         "InvalidHouse": "(part, index)",
         "InvalidLamp": "(lamp)",
@@ -250,13 +277,31 @@ METHODS = {
         "history": "(self)",
         "fork": "(self)",
     },
+    ("desk", "Desk"): {
+        "move": "(self, lamp)",
+        "attempt": "(self, run)",
+        "undo": "(self)",
+        "redo": "(self)",
+        "change_mode": "(self, word)",
+        "run": "(self)",
+        "twin": "(self)",
+        "aim": "(self, target)",
+        "is_open": "(self)",
+        "lost_at": "(self)",
+        "hint": "(self)",
+    },
 }
-PROPERTIES = {("tally", "Tally"): ["total"], ("watcher", "Watcher"): ["possible", "failed_at"]}
+PROPERTIES = {
+    ("tally", "Tally"): ["total"],
+    ("watcher", "Watcher"): ["possible", "failed_at"],
+    ("desk", "Desk"): ["current", "current_worth", "steps", "goal", "mode"],
+}
 CONSTANTS = {
     ("lengths", "MOST_MOVES"): 1000,
     ("tallies", "MOST_TALLIES"): 2000,
     ("listing", "MOST_STATES"): 4096,
     ("watcher", "MOST_WATCHED"): 256,
+    ("facts", "MOST_NAMES"): 8,
 }
 LABELS = {
     ("kin", "Kin"): "free",
@@ -294,6 +339,8 @@ class InterfaceTest(unittest.TestCase):
             owner = getattr(importlib.import_module("huefall." + module_name), class_name)
             for name in names:
                 self.assertIsInstance(vars(owner)[name], property)
+                # Only the mode of a desk can be assigned.
+                self.assertEqual(vars(owner)[name].fset is None, name != "mode")
 
     def test_constants(self):
         for (module_name, name), number in CONSTANTS.items():

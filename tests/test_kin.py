@@ -1,5 +1,5 @@
 from huefall.building import careful_run
-from huefall.errors import DarkLamp, InvalidLamp, InvalidState, LitBeneath, NotReachable, TooLong
+from huefall.errors import DarkLamp, LitBeneath, NotReachable, TooLong
 from huefall.house import House
 from huefall.kin import CarefulKin, CarefulWiredKin, Kin, WiredKin
 from huefall.lengths import greatest_tally, longest_run, worth
@@ -7,11 +7,11 @@ from huefall.shapes import chain, floors, hillside
 from huefall.states import bright_state, dark_state, is_state
 from tests.helpers import (
     FaultTest,
+    RuleTest,
     all_houses,
     all_states,
     great_houses,
     lamps_below,
-    no_lamps,
     no_states,
     put_in_by_the_words,
     reachable_pairs,
@@ -65,7 +65,7 @@ def counts_of(rule, run):
     return [run.count(lamp) for lamp in range(rule.house.count)]
 
 
-class RulesTest(FaultTest):
+class RulesTest(RuleTest):
     """Points 63 and 64."""
 
     def test_labels_and_classes(self):
@@ -92,13 +92,7 @@ class RulesTest(FaultTest):
 
     def test_lists_are_new(self):
         for rule in RULES:
-            made = rule(LADDER)
-            calls = [lambda: made.turned(2), lambda: made.greatest((1, 1, 1, 1), (0, 0, 0, 0))]
-            calls.append(lambda: made.run((0, 0, 1, 0), (0, 0, 0, 0)))
-            for call in calls:
-                kept = call()
-                call().clear()
-                self.assertEqual(call(), kept)
+            self.assert_lists_are_new(rule(LADDER))
 
     def test_is_state(self):
         for rule in RULES:
@@ -141,22 +135,7 @@ class RulesTest(FaultTest):
 
     def test_values_that_are_no_states_or_lamps(self):
         for rule in RULES:
-            made = rule(LADDER)
-            for value in no_states(LADDER):
-                fault = {"state": value}
-                for method in (made.allowed, made.after):
-                    self.assert_fault(InvalidState, fault, method, value, "no lamp")
-                for method in (made.greatest, made.reaches, made.run):
-                    self.assert_fault(InvalidState, fault, method, value, "later")
-                    self.assert_fault(InvalidState, fault, method, (0,) * 4, value)
-                self.assert_fault(InvalidState, fault, made.worth, value)
-            for value in no_lamps(LADDER):
-                fault = {"lamp": value}
-                for method in (made.turned, made.factor):
-                    self.assert_fault(InvalidLamp, fault, method, value)
-                for method in (made.allowed, made.after):
-                    # All lamps are dark, so a later check would refuse the move instead.
-                    self.assert_fault(InvalidLamp, fault, method, (0,) * 4, value)
+            self.assert_checks(rule(LADDER), no_states(LADDER))
 
 
 class GreatestTest(FaultTest):

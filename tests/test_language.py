@@ -53,7 +53,12 @@ def generators():
     return [node.name for node in functions if nodes(node, ast.Yield, ast.YieldFrom)]
 
 
-def is_literal(node):
+def is_plain_value(node, functions):
+    """True for a literal, and for a dict of literals and functions that stand above."""
+    if isinstance(node, ast.Dict):
+        return all(is_plain_value(part, functions) for part in [*node.keys, *node.values])
+    if isinstance(node, ast.Name):
+        return node.id in functions
     try:
         ast.literal_eval(node)
     except ValueError:
@@ -117,9 +122,12 @@ class StatementsTest(unittest.TestCase):
     def test_top_of_files(self):
         for name, tree in TREES.items():
             self.assertTrue(ast.get_docstring(tree), name)
+            functions = []
             for node in tree.body[1:]:
+                if isinstance(node, ast.FunctionDef):
+                    functions.append(node.name)
                 if isinstance(node, ast.Assign):
-                    self.assertTrue(is_literal(node.value), name)
+                    self.assertTrue(is_plain_value(node.value, functions), name)
                 else:
                     self.assertIsInstance(node, (ast.ImportFrom, ast.FunctionDef, ast.ClassDef), name)
             names = defined_names(tree)
@@ -139,7 +147,8 @@ class StatementsTest(unittest.TestCase):
         for name, tree in TREES.items():
             for node in nodes(tree, ast.FunctionDef, ast.ClassDef):
                 for decorator in node.decorator_list:
-                    self.assertIn(ast.unparse(decorator), ["staticmethod", "classmethod", "property"], name)
+                    setter = f"{getattr(node, 'name', None)}.setter"
+                    self.assertIn(ast.unparse(decorator), ["staticmethod", "classmethod", "property", setter], name)
 
 
 class ExpressionsTest(unittest.TestCase):
@@ -166,7 +175,7 @@ class ExpressionsTest(unittest.TestCase):
             inner = [node.arg for node in nodes(tree, ast.arg)]
             inner += [node.id for node in nodes(tree, ast.Name) if isinstance(node.ctx, ast.Store)]
             self.assertEqual(sorted(set(outer) & set(inner)), [], name)
-            for bound in bound_names(tree):
+            for bound in set(bound_names(tree)) - {"_"}:
                 self.assertNotIn(bound, dir(builtins), name)
 
     def test_methods(self):

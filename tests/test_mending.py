@@ -9,6 +9,7 @@ from huefall.states import bright_state, dark_state, state_of
 from tests.helpers import (
     NO_INTEGERS,
     FaultTest,
+    Unequal,
     all_states,
     great_houses,
     moves_from,
@@ -17,13 +18,6 @@ from tests.helpers import (
 )
 
 SMALL = small_houses()
-
-
-class Unequal:
-    """A value that refuses to be compared."""
-
-    def __eq__(self, other):
-        raise RuntimeError
 
 
 def lengths_by_hand(house):

@@ -1,6 +1,6 @@
 from itertools import product
 
-from huefall.errors import DarkLamp, InvalidHouse, InvalidLamp, InvalidNumber, InvalidState, NotReachable, TooLong
+from huefall.errors import DarkLamp, InvalidHouse, InvalidNumber, NotReachable, TooLong
 from huefall.house import House
 from huefall.kin import Kin
 from huefall.otherkin import CoinKin, GainKin, MixedKin
@@ -9,11 +9,11 @@ from huefall.states import bright_state, dark_state, is_state
 from tests.helpers import (
     NO_INTEGERS,
     FaultTest,
+    RuleTest,
     all_houses,
     all_states,
     great_houses,
     lamps_below,
-    no_lamps,
     no_states,
     no_values_of_a_tuple,
     put_in_by_the_words,
@@ -80,7 +80,7 @@ def states_of(rule):
     return all_states(rule.house)
 
 
-class RulesTest(FaultTest):
+class RulesTest(RuleTest):
     """Points 63 and 64."""
 
     def test_labels_and_classes(self):
@@ -163,21 +163,9 @@ class RulesTest(FaultTest):
 
     def test_values_that_are_no_states_or_lamps(self):
         for rule in rules_of(LADDER):
-            wrong = [*NO_INTEGERS, -1]
-            for value in no_values_of_a_tuple((0, 1, 1, 0), wrong if rule.LABEL == "coin" else [*wrong, 10]):
-                fault = {"state": value}
-                for method in (rule.allowed, rule.after):
-                    self.assert_fault(InvalidState, fault, method, value, "no lamp")
-                for method in (rule.greatest, rule.reaches, rule.run):
-                    self.assert_fault(InvalidState, fault, method, value, "later")
-                    self.assert_fault(InvalidState, fault, method, (0,) * 4, value)
-                self.assert_fault(InvalidState, fault, rule.worth, value)
-            for value in no_lamps(LADDER):
-                for method in (rule.turned, rule.factor):
-                    self.assert_fault(InvalidLamp, {"lamp": value}, method, value)
-                for method in (rule.allowed, rule.after):
-                    # All lamps are dark, so a later check would refuse the move instead.
-                    self.assert_fault(InvalidLamp, {"lamp": value}, method, (0,) * 4, value)
+            # A heap of 10 coins is right.
+            wrong = [*NO_INTEGERS, -1] if rule.LABEL == "coin" else [*NO_INTEGERS, -1, 10]
+            self.assert_checks(rule, no_values_of_a_tuple((0, 1, 1, 0), wrong))
 
     def test_gains(self):
         for hues in (2, 3, 10):
@@ -200,12 +188,7 @@ class RulesTest(FaultTest):
 
     def test_lists_are_new(self):
         for rule in rules_of(LADDER):
-            calls = [lambda: rule.turned(2), lambda: rule.greatest((1, 1, 1, 1), (0, 0, 0, 0))]
-            calls.append(lambda: rule.run((0, 0, 1, 0), (0, 0, 0, 0)))
-            for call in calls:
-                kept = call()
-                call().clear()
-                self.assertEqual(call(), kept)
+            self.assert_lists_are_new(rule)
 
 
 class GreatestTest(FaultTest):

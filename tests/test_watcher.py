@@ -6,16 +6,19 @@ from huefall.house import House
 from huefall.shapes import chain, floors, hillside
 from huefall.states import bright_state, dark_state, number_of, state_of
 from huefall.watcher import MOST_WATCHED, Watcher
-from tests.helpers import NO_INTEGERS, FaultTest, all_states, moves_from, no_lamps, no_states, searched, small_houses
+from tests.helpers import (
+    NO_INTEGERS,
+    FaultTest,
+    Unequal,
+    all_states,
+    moves_from,
+    no_lamps,
+    no_states,
+    searched,
+    small_houses,
+)
 
 SMALL = small_houses()
-
-
-class Unequal:
-    """A value that refuses to be compared."""
-
-    def __eq__(self, other):
-        raise RuntimeError
 
 
 def states_after(house, state, line):
@@ -56,6 +59,7 @@ def no_lines(house):
     values += [("move", lamp) for lamp in [*no_lamps(house), Unequal()]]
     values += [("moves", number) for number in [*NO_INTEGERS, -1, -10 ** 30, Unequal()]]
     values += [("glimpse", value) for value in [None, 0, "", [*hues, 0], hues, (*hues, 0, 0), (*hues, house.hues)]]
+    values += [(word, (*hues, None)) for word in ("some", "move", "moves", "Glimpse", "other", "")]
     values += [("glimpse", (*hues, value)) for value in (True, False, -1, "0", 1.0, Unequal())]
     return values + [(None, 0), ("goal", 0), (["move"], 0), (Unequal(), 0), ("other", Unequal())]
 
